@@ -1,0 +1,61 @@
+// Package cairn: an archive in parts, of which any so many give the whole back: see DOC.md.
+package cairn
+
+import (
+	"cairn/api"
+	"cairn/coding"
+	"cairn/field"
+	"cairn/sum"
+)
+
+// Reader takes a shard part by part.
+type Reader struct{}
+
+// Mul multiplies two bytes (P3).
+func Mul(a byte, b byte) byte { return field.Mul(a, b) }
+
+// Inv gives a byte's inverse (P3).
+func Inv(a byte) byte { return field.Inv(a) }
+
+// Sum gives the sum of some bytes (P3).
+func Sum(data []byte) uint64 { return sum.Of(data) }
+
+// Rows gives the rows for k and n (P4).
+func Rows(k int, n int) ([][]byte, api.Errno) {
+	if !coding.PartsFit(k, n) {
+		return nil, api.ErrParams
+	}
+	return coding.Rows(k, n), api.OK
+}
+
+// Rebuild gives the first k columns by any k (P5).
+func Rebuild(k int, n int, columns []api.Column) ([][]byte, api.Errno) {
+	if !coding.PartsFit(k, n) {
+		return nil, api.ErrParams
+	}
+	if !coding.ColumnsFit(k, n, columns) {
+		return nil, api.ErrColumns
+	}
+	return coding.Rebuild(k, columns), api.OK
+}
+
+// Encode lays blobs up in shards (P6).
+func Encode(blobs []api.Blob, p api.Params) ([][]byte, api.Errno) { return nil, api.OK }
+
+// Parse reads a shard (P7).
+func Parse(shard []byte) (api.Shard, api.Errno, int) { return api.Shard{}, api.OK, 0 }
+
+// Write writes a shard (P8).
+func Write(s api.Shard) ([]byte, api.Errno) { return nil, api.OK }
+
+// Decode gives the blobs back (P10).
+func Decode(shards [][]byte) ([]api.Blob, api.Verdicts, api.Errno) { return nil, nil, api.OK }
+
+// NewReader makes a Reader (P9).
+func NewReader() *Reader { return nil }
+
+// Feed takes bytes of a shard (P9).
+func (r *Reader) Feed(part []byte) (api.Errno, int) { return api.OK, 0 }
+
+// Finish tells what the shard is (P9).
+func (r *Reader) Finish() (api.Shard, api.Errno, int) { return api.Shard{}, api.OK, 0 }
