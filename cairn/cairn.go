@@ -3,8 +3,10 @@ package cairn
 
 import (
 	"cairn/api"
+	"cairn/archive"
 	"cairn/coding"
 	"cairn/field"
+	"cairn/layout"
 	"cairn/sum"
 )
 
@@ -40,7 +42,20 @@ func Rebuild(k int, n int, columns []api.Column) ([][]byte, api.Errno) {
 }
 
 // Encode lays blobs up in shards (P6).
-func Encode(blobs []api.Blob, p api.Params) ([][]byte, api.Errno) { return nil, api.OK }
+func Encode(blobs []api.Blob, p api.Params) ([][]byte, api.Errno) {
+	if !layout.ParamsFit(p) {
+		return nil, api.ErrParams
+	}
+	sorted, ok := archive.ByName(blobs)
+	if !ok {
+		return nil, api.ErrName
+	}
+	shards, ok := archive.Encode(sorted, p)
+	if !ok {
+		return nil, api.ErrMany
+	}
+	return shards, api.OK
+}
 
 // Parse reads a shard (P7).
 func Parse(shard []byte) (api.Shard, api.Errno, int) { return api.Shard{}, api.OK, 0 }

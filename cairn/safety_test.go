@@ -131,18 +131,21 @@ func TestP2RowsAreNewMemory(t *testing.T) {
 	}
 }
 
-// roomyColumns gives columns that have spare room behind each list, and the memory behind them.
-func roomyColumns(columns []api.Column) (inner []api.Column, behind []api.Column, wholes [][]byte) {
-	behind = make([]api.Column, len(columns)+3)
-	for i, c := range columns {
-		data, whole := roomy(c.Data)
-		behind[i] = api.Column{Index: c.Index, Data: data}
+// roomyItems gives items that have spare room behind the data of each and items behind them, all of these, and the memory of the data.
+func roomyItems[T any](items []T, data func(*T) *[]byte, behind T) (inner []T, full []T, wholes [][]byte) {
+	full = append([]T(nil), items...)
+	for i := range full {
+		list := data(&full[i])
+		room, whole := roomy(*list)
+		*list = room
 		wholes = append(wholes, whole)
 	}
-	for i := len(columns); i < len(behind); i++ {
-		behind[i] = column(-77, 7)
-	}
-	return behind[:len(columns)], behind, wholes
+	full = append(full, behind, behind, behind)
+	return full[:len(items)], full, wholes
+}
+
+func roomyColumns(columns []api.Column) (inner []api.Column, full []api.Column, wholes [][]byte) {
+	return roomyItems(columns, func(c *api.Column) *[]byte { return &c.Data }, column(-77, 7))
 }
 
 func TestP2RebuildLeavesItsColumns(t *testing.T) {
@@ -154,7 +157,7 @@ func TestP2RebuildLeavesItsColumns(t *testing.T) {
 		for _, i := range indexes {
 			chosen = append(chosen, all[i])
 		}
-		given, behind, wholes := roomyColumns(chosen)
+		given, full, wholes := roomyColumns(chosen)
 		cairn.Rebuild(3, 6, given)
 		for i, c := range chosen {
 			_, want := roomy(c.Data)
@@ -162,7 +165,7 @@ func TestP2RebuildLeavesItsColumns(t *testing.T) {
 				t.Errorf("P2: Rebuild of %v wrote into column %d", indexes, i)
 			}
 		}
-		for _, c := range behind[len(given):] {
+		for _, c := range full[len(given):] {
 			if c.Index != -77 || len(c.Data) != 1 || c.Data[0] != 7 {
 				t.Errorf("P2: Rebuild of %v wrote behind its columns", indexes)
 			}
@@ -204,4 +207,92 @@ func TestP2RebuildOfOneListTwice(t *testing.T) {
 		t.Fatalf("P2: Rebuild = %v, %d", answer, errno)
 	}
 	checkApart(t, append(answer, shared))
+}
+
+func TestP1EncodeEndsAtAllNumbers(t *testing.T) {
+	for _, k := range edges() {
+		for _, n := range edges() {
+			for _, chunk := range edges() {
+				fits := partsFit(k, n) && 1 <= chunk && chunk <= 65536
+				shards, errno := cairn.Encode([]api.Blob{blob("a", "xyz")}, api.Params{K: k, N: n, Chunk: chunk})
+				if fits && (errno != api.OK || len(shards) != n) || !fits && (errno != api.ErrParams || len(shards) != 0) {
+					t.Errorf("P1: Encode(.., {%d, %d, %d}) = %d shards, %d", k, n, chunk, len(shards), errno)
+				}
+			}
+		}
+	}
+}
+
+func TestP1EncodeEndsAtAnyLists(t *testing.T) {
+	random := rand.New(rand.NewSource(15))
+	lengths := []int{0, 1, 1, 1, 2, 2, 255, 256}
+	for range 3000 {
+		n := random.Intn(6) - 1
+		p := api.Params{K: random.Intn(6) - 1, N: n, Chunk: random.Intn(5) - 1}
+		blobs := make([]api.Blob, random.Intn(5))
+		for i := range blobs {
+			name := make([]byte, lengths[random.Intn(len(lengths))])
+			random.Read(name)
+			blobs[i] = api.Blob{Name: string(name), Data: make([]byte, random.Intn(4))}
+		}
+		shards, errno := cairn.Encode(blobs, p)
+		if errno == api.OK && len(shards) != n || errno != api.OK && len(shards) != 0 {
+			t.Errorf("P1: Encode(%v, %v) = %d shards, %d", blobs, p, len(shards), errno)
+		}
+	}
+}
+
+func roomyBlobs(blobs []api.Blob) (inner []api.Blob, full []api.Blob, wholes [][]byte) {
+	return roomyItems(blobs, func(b *api.Blob) *[]byte { return &b.Data }, blob("behind", "behind"))
+}
+
+func TestP2EncodeLeavesItsBlobs(t *testing.T) {
+	for _, blobs := range [][]api.Blob{
+		{blob("c", "333"), blob("a", "1"), blob("b", "22"), blob("d", "")},
+		{blob("b", "333"), blob("a", "1"), blob("b", "22")},
+		{blob("b", "333"), blob("", "1"), blob("a", "22")},
+		{blob("b", "333"), blob("a", string(make([]byte, 65536)))},
+	} {
+		for _, p := range []api.Params{{K: 2, N: 4, Chunk: 1}, {K: 1, N: 1, Chunk: 9}, {K: 3, N: 2, Chunk: 1}} {
+			given, full, wholes := roomyBlobs(blobs)
+			cairn.Encode(given, p)
+			for i, b := range blobs {
+				_, want := roomy(b.Data)
+				if !bytes.Equal(wholes[i], want) || given[i].Name != b.Name || &given[i].Data[:1][0] != &wholes[i][8] {
+					t.Errorf("P2: Encode wrote into blob %d of %d", i, len(blobs))
+				}
+			}
+			for _, b := range full[len(given):] {
+				if b.Name != "behind" || string(b.Data) != "behind" {
+					t.Errorf("P2: Encode wrote behind its blobs")
+				}
+			}
+		}
+	}
+}
+
+func TestP2EncodeAnswersNewMemory(t *testing.T) {
+	blobs := []api.Blob{blob("c", "333"), blob("a", "1"), blob("b", "22"), blob("d", "")}
+	for _, p := range []api.Params{{K: 1, N: 1, Chunk: 9}, {K: 1, N: 3, Chunk: 6}, {K: 2, N: 4, Chunk: 1}, {K: 4, N: 4, Chunk: 2}} {
+		for _, list := range [][]api.Blob{nil, blobs[:1], blobs} {
+			given, _, wholes := roomyBlobs(list)
+			shards, errno := cairn.Encode(given, p)
+			for _, whole := range wholes {
+				scribble(whole, 0)
+			}
+			checkShards(t, "blobs changed afterwards", shards, errno, wantShards(list, p))
+			checkApart(t, append(shards, wholes...))
+			checkEncode(t, "shards changed afterwards", list, p)
+		}
+	}
+}
+
+// One list handed in as the data of several blobs is read only.
+func TestP2EncodeOfOneListTwice(t *testing.T) {
+	shared := []byte("shared data")
+	blobs := []api.Blob{{Name: "b", Data: shared[:4]}, {Name: "a", Data: shared}, {Name: "c", Data: shared[2:6]}}
+	checkEncode(t, "one list in several blobs", blobs, api.Params{K: 2, N: 4, Chunk: 3})
+	if string(shared) != "shared data" {
+		t.Errorf("P2: Encode wrote: %q", shared)
+	}
 }

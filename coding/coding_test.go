@@ -86,3 +86,26 @@ func TestCombine(t *testing.T) {
 		t.Errorf("Combine of an empty column = %v", got)
 	}
 }
+
+func TestLength(t *testing.T) {
+	for k := 1; k <= 128; k++ {
+		for total := range 400 {
+			if got := Length(k, total); k*got < total || k*(got-1) >= total && got > 0 {
+				t.Fatalf("Length(%d, %d) = %d", k, total, got)
+			}
+		}
+	}
+}
+
+func TestColumns(t *testing.T) {
+	got := Columns(2, 4, []byte{1, 2, 3})
+	want := [][]byte{{1, 2}, {3, 0}, {field.Mul(142, 1) ^ field.Mul(244, 3), field.Mul(142, 2)}, {field.Mul(244, 1) ^ field.Mul(142, 3), field.Mul(244, 2)}}
+	if !reflect.DeepEqual(got, want) {
+		t.Errorf("Columns = %v, want %v", got, want)
+	}
+	for i, column := range Columns(3, 5, nil) {
+		if len(column) != 0 {
+			t.Errorf("column %d of no data = %v", i, column)
+		}
+	}
+}
