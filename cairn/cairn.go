@@ -2,16 +2,22 @@
 package cairn
 
 import (
+	"errors"
+
 	"cairn/api"
 	"cairn/archive"
 	"cairn/coding"
+	"cairn/fault"
 	"cairn/field"
 	"cairn/layout"
 	"cairn/sum"
 )
 
 // Reader takes a shard part by part.
-type Reader struct{}
+type Reader struct {
+	made    *Reader         // itself, if NewReader made it; so a copy is known
+	reading *layout.Reading // nil behind Finish
+}
 
 // Mul multiplies two bytes (P3).
 func Mul(a byte, b byte) byte { return field.Mul(a, b) }
@@ -58,19 +64,62 @@ func Encode(blobs []api.Blob, p api.Params) ([][]byte, api.Errno) {
 }
 
 // Parse reads a shard (P7).
-func Parse(shard []byte) (api.Shard, api.Errno, int) { return api.Shard{}, api.OK, 0 }
+func Parse(shard []byte) (api.Shard, api.Errno, int) {
+	r := NewReader()
+	r.Feed(shard)
+	return r.Finish()
+}
 
 // Write writes a shard (P8).
-func Write(s api.Shard) ([]byte, api.Errno) { return nil, api.OK }
+func Write(s api.Shard) ([]byte, api.Errno) {
+	if errno := layout.Check(s); errno != api.OK {
+		return nil, errno
+	}
+	return layout.Write(s, layout.Manifest(s.Names, s.Sizes)), api.OK
+}
 
 // Decode gives the blobs back (P10).
 func Decode(shards [][]byte) ([]api.Blob, api.Verdicts, api.Errno) { return nil, nil, api.OK }
 
 // NewReader makes a Reader (P9).
-func NewReader() *Reader { return nil }
+func NewReader() *Reader {
+	r := &Reader{reading: &layout.Reading{}}
+	r.made = r
+	return r
+}
 
 // Feed takes bytes of a shard (P9).
-func (r *Reader) Feed(part []byte) (api.Errno, int) { return api.OK, 0 }
+func (r *Reader) Feed(part []byte) (api.Errno, int) {
+	if r.closed() {
+		return api.ErrClosed, 0
+	}
+	err := r.reading.Take(part)
+	if errors.Is(err, fault.TooEarly) {
+		return api.OK, 0
+	}
+	return answer(err)
+}
 
 // Finish tells what the shard is (P9).
-func (r *Reader) Finish() (api.Shard, api.Errno, int) { return api.Shard{}, api.OK, 0 }
+func (r *Reader) Finish() (api.Shard, api.Errno, int) {
+	if r.closed() {
+		return api.Shard{}, api.ErrClosed, 0
+	}
+	shard, err := r.reading.End()
+	r.reading = nil
+	errno, place := answer(err)
+	return shard, errno, place
+}
+
+func (r *Reader) closed() bool {
+	return r == nil || r.made != r || r.reading == nil
+}
+
+// answer gives the error and the place that an error of the packages inside tells of.
+func answer(err error) (api.Errno, int) {
+	var found *fault.Fault
+	if errors.As(err, &found) {
+		return found.Errno, found.Place
+	}
+	return api.OK, 0
+}

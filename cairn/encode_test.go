@@ -160,18 +160,6 @@ func TestP6DataOfNoBytes(t *testing.T) {
 	checkShards(t, "nil and no bytes", filled, api.OK, wantShards([]api.Blob{{Name: "a"}}, api.Params{K: 1, N: 2, Chunk: 1}))
 }
 
-func TestP6LengthsAndChunks(t *testing.T) {
-	for _, parts := range [][2]int{{1, 1}, {1, 3}, {2, 2}, {3, 5}, {7, 8}} {
-		for length := range 20 {
-			for _, chunk := range []int{1, 2, 3, 5, 19, 20, 65536} {
-				p := api.Params{K: parts[0], N: parts[1], Chunk: chunk}
-				data := "the bytes of one blob"[:length]
-				checkEncode(t, strconv.Itoa(length)+" bytes, chunk "+strconv.Itoa(chunk), []api.Blob{blob("name", data)}, p)
-			}
-		}
-	}
-}
-
 func randomBlobs(random *rand.Rand, count int, longest int) []api.Blob {
 	blobs := make([]api.Blob, count)
 	for i := range blobs {
@@ -184,24 +172,39 @@ func randomBlobs(random *rand.Rand, count int, longest int) []api.Blob {
 	return blobs
 }
 
-func TestP6AnyBlobs(t *testing.T) {
+// anyArchives calls use with blobs and params of all kinds: short data in chunks of all lengths, random blobs, the greatest numbers, and as much data and as long a manifest as there may be.
+func anyArchives(use func(what string, blobs []api.Blob, p api.Params)) {
+	for _, parts := range [][2]int{{1, 1}, {1, 3}, {2, 2}, {3, 5}, {7, 8}} {
+		for length := range 20 {
+			for _, chunk := range []int{1, 2, 3, 5, 19, 20, 65536} {
+				data := "the bytes of one blob"[:length]
+				use(strconv.Itoa(length)+" bytes, chunk "+strconv.Itoa(chunk), []api.Blob{blob("name", data)}, api.Params{K: parts[0], N: parts[1], Chunk: chunk})
+			}
+		}
+	}
 	random := rand.New(rand.NewSource(20))
 	for range 60 {
 		n := 1 + random.Intn(12)
 		p := api.Params{K: 1 + random.Intn(n), N: n, Chunk: 1 + random.Intn(30)}
-		checkEncode(t, "random blobs", randomBlobs(random, random.Intn(20), 30), p)
+		use("random blobs", randomBlobs(random, random.Intn(20), 30), p)
 	}
-}
-
-func TestP6GreatestNumbers(t *testing.T) {
-	random := rand.New(rand.NewSource(21))
 	blobs := randomBlobs(random, 40, 60)
 	for _, p := range []api.Params{
 		{K: 128, N: 128, Chunk: 1}, {K: 128, N: 128, Chunk: 65536}, {K: 127, N: 128, Chunk: 7}, {K: 64, N: 128, Chunk: 4},
 		{K: 1, N: 128, Chunk: 100}, {K: 1, N: 1, Chunk: 65536}, {K: 1, N: 1, Chunk: 1}, {K: 1, N: 2, Chunk: 65535},
 	} {
-		checkEncode(t, "great numbers", blobs, p)
+		use("great numbers", blobs, p)
 	}
+	whole := make([]byte, 65536)
+	random.Read(whole)
+	for _, p := range []api.Params{{K: 1, N: 2, Chunk: 65536}, {K: 1, N: 1, Chunk: 65535}, {K: 1, N: 1, Chunk: 1}, {K: 3, N: 4, Chunk: 1000}, {K: 128, N: 128, Chunk: 1}} {
+		use("65536 bytes", []api.Blob{{Name: "b", Data: whole[1:]}, {Name: "a", Data: whole[:1]}}, p)
+	}
+	use("1000 blobs with long names", numbered(1000, 255), api.Params{K: 2, N: 3, Chunk: 65536})
+}
+
+func TestP6AnyBlobs(t *testing.T) {
+	anyArchives(func(what string, blobs []api.Blob, p api.Params) { checkEncode(t, what, blobs, p) })
 }
 
 func TestP6GreatestTotal(t *testing.T) {

@@ -2,8 +2,10 @@ package cairn_test
 
 import (
 	"bytes"
+	"encoding/binary"
 	"math"
 	"math/rand"
+	"slices"
 	"testing"
 
 	"cairn/api"
@@ -294,5 +296,145 @@ func TestP2EncodeOfOneListTwice(t *testing.T) {
 	checkEncode(t, "one list in several blobs", blobs, api.Params{K: 2, N: 4, Chunk: 3})
 	if string(shared) != "shared data" {
 		t.Errorf("P2: Encode wrote: %q", shared)
+	}
+}
+
+func TestP1ParseEndsAtAnyBytes(t *testing.T) {
+	random := rand.New(rand.NewSource(16))
+	for range 20000 {
+		b := make([]byte, random.Intn(200))
+		random.Read(b)
+		if random.Intn(2) == 0 {
+			copy(b, "CAIRN1")
+		}
+		checkLikeWant(t, "any bytes", b)
+	}
+}
+
+// All is well made but for the numbers, which may be any.
+func TestP1ParseEndsAtAnyNumbers(t *testing.T) {
+	random := rand.New(rand.NewSource(17))
+	numbers := []uint32{0, 1, 2, 3, 4, 11, 18, 127, 128, 255, 256, 1000, 1001, 65535, 65536, 65537, 300000, 300001, 1<<31 - 1, 1 << 31, 1<<32 - 1}
+	for range 20000 {
+		d := randomDraft(random)
+		for range random.Intn(3) {
+			d = d.said(10+4*random.Intn(3), numbers[random.Intn(len(numbers))])
+		}
+		if random.Intn(2) == 0 {
+			at := random.Intn(len(d.manifest) - 3)
+			binary.LittleEndian.PutUint32(d.manifest[at:], numbers[random.Intn(len(numbers))])
+		}
+		checkLikeWant(t, "any numbers", d.bytes())
+	}
+}
+
+func TestP1WriteEndsAtAllNumbers(t *testing.T) {
+	for _, k := range edges() {
+		for _, n := range edges() {
+			for _, index := range edges() {
+				for _, size := range edges() {
+					s := api.Shard{K: k, N: n, Index: index, Chunk: 1, Names: []string{"a"}, Sizes: []int{size}, Column: []byte{0}}
+					want := api.OK
+					switch {
+					case !partsFit(k, n) || index < 0 || index >= n:
+						want = api.ErrParams
+					case size < 0:
+						want = api.ErrName
+					case size > 65536:
+						want = api.ErrMany
+					case size < 1 || size > k:
+						want = api.ErrColumns
+					}
+					if b, errno := cairn.Write(s); errno != want || (len(b) > 0) != (want == api.OK) {
+						t.Errorf("P1: Write(%+v) = %d bytes, %d, want %d", s, len(b), errno, want)
+					}
+				}
+			}
+		}
+	}
+}
+
+func TestP1WriteEndsAtAnyLists(t *testing.T) {
+	random := rand.New(rand.NewSource(18))
+	for range 20000 {
+		s := randomShard(random)
+		b, errno := cairn.Write(s)
+		if (errno == api.OK) != (len(b) > 0) {
+			t.Errorf("P1: Write(%+v) = %d bytes, %d", s, len(b), errno)
+		}
+	}
+}
+
+// scribbleShard writes over a shard's lists and their spare room.
+func scribbleShard(s api.Shard, fill byte) {
+	scribble(s.Column, fill)
+	for i := range s.Names[:cap(s.Names)] {
+		s.Names[:cap(s.Names)][i] = "scribbled"
+	}
+	for i := range s.Sizes[:cap(s.Sizes)] {
+		s.Sizes[:cap(s.Sizes)][i] = int(fill)
+	}
+}
+
+func TestP2ParseLeavesItsBytes(t *testing.T) {
+	random := rand.New(rand.NewSource(19))
+	for range 300 {
+		inner, whole := roomy(spoil(random, randomDraft(random)))
+		before := bytes.Clone(whole)
+		cairn.Parse(inner)
+		if !bytes.Equal(whole, before) {
+			t.Fatalf("P2: Parse wrote into its bytes, or beside them")
+		}
+	}
+}
+
+func TestP2ParseAnswersNewMemory(t *testing.T) {
+	for _, d := range readerDrafts() {
+		inner, whole := roomy(d.bytes())
+		got, errno, _ := cairn.Parse(inner)
+		want, _, _ := wantParse(d.bytes())
+		scribble(whole, 7)
+		if errno != api.OK || !sameShard(got, want) {
+			t.Errorf("P2: what Parse answered hangs on the caller's bytes: %+v, %d", got, errno)
+		}
+		scribbleShard(got, 9)
+		if !bytes.Equal(whole, bytes.Repeat([]byte{7}, len(whole))) {
+			t.Errorf("P2: what Parse answered is the caller's memory")
+		}
+		again, errno, _ := cairn.Parse(d.bytes())
+		if errno != api.OK || !sameShard(again, want) {
+			t.Errorf("P2: Parse hangs on what was done to an earlier answer: %+v, %d", again, errno)
+		}
+	}
+}
+
+func TestP2WriteLeavesItsShard(t *testing.T) {
+	random := rand.New(rand.NewSource(27))
+	for range 300 {
+		s := randomShard(random)
+		column, whole := roomy(s.Column)
+		names := append(append([]string(nil), s.Names...), "behind", "behind")
+		sizes := append(append([]int(nil), s.Sizes...), -77, -77)
+		given := s
+		given.Names, given.Sizes, given.Column = names[:len(s.Names)], sizes[:len(s.Sizes)], column
+		cairn.Write(given)
+		_, want := roomy(s.Column)
+		if !bytes.Equal(whole, want) || !slices.Equal(names, append(slices.Clone(s.Names), "behind", "behind")) || !slices.Equal(sizes, append(slices.Clone(s.Sizes), -77, -77)) {
+			t.Fatalf("P2: Write wrote into %+v", s)
+		}
+	}
+}
+
+func TestP2WriteAnswersNewMemory(t *testing.T) {
+	for _, d := range readerDrafts() {
+		s, _, _ := wantParse(d.bytes())
+		column, whole := roomy(s.Column)
+		s.Column = column
+		got, errno := cairn.Write(s)
+		scribble(whole, 7)
+		if errno != api.OK || !bytes.Equal(got, d.bytes()) {
+			t.Errorf("P2: what Write answered hangs on the caller's column")
+		}
+		checkApart(t, [][]byte{got, whole})
 	}
 }

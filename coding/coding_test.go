@@ -109,3 +109,22 @@ func TestColumns(t *testing.T) {
 		}
 	}
 }
+
+func TestUsed(t *testing.T) {
+	for k := 1; k <= 6; k++ {
+		for total := range 20 {
+			length := Length(k, total)
+			for i := range 8 {
+				want := 0
+				for m := range length {
+					if i >= k || i*length+m < total {
+						want++
+					}
+				}
+				if got := Used(k, i, total); got != want {
+					t.Errorf("Used(%d, %d, %d) = %d, want %d", k, i, total, got, want)
+				}
+			}
+		}
+	}
+}

@@ -7,6 +7,15 @@ func Length(k int, total int) int {
 	return (total + k - 1) / k
 }
 
+// Used gives how many bytes of column i, from its first on, stand for data or are worked out of it. The others fill it up.
+func Used(k int, i int, total int) int {
+	length := Length(k, total)
+	if i >= k {
+		return length
+	}
+	return max(0, min(length, total-i*length))
+}
+
 // Columns gives the n columns of an archive of this data, of which any k give it back. k and n fit.
 //
 // Those below k are worked out like the others: their rows are 0 but for a 1 at their own place, and so what comes out is their piece of the data.

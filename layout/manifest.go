@@ -13,6 +13,19 @@ func NameFits(name string) bool {
 	return 1 <= len(name) && len(name) <= api.MaxName
 }
 
+// listFits tells whether names and sizes may be those of blobs that come by their names.
+func listFits(names []string, sizes []int) bool {
+	if len(names) != len(sizes) {
+		return false
+	}
+	for i, name := range names {
+		if !NameFits(name) || sizes[i] < 0 || i > 0 && name <= names[i-1] {
+			return false
+		}
+	}
+	return true
+}
+
 // ContentFits tells whether blobs of these names, which fit, and of these sizes are few and small enough for one archive.
 func ContentFits(names []string, sizes []int) bool {
 	return len(names) <= api.MaxBlobs && sizesFit(sizes) && manifestSize(names) <= api.MaxManifest
