@@ -1,4 +1,4 @@
-// Package archive: blobs laid up in shards.
+// Package archive: blobs laid up in shards, and shards put together again.
 package archive
 
 import (

@@ -79,7 +79,20 @@ func Write(s api.Shard) ([]byte, api.Errno) {
 }
 
 // Decode gives the blobs back (P10).
-func Decode(shards [][]byte) ([]api.Blob, api.Verdicts, api.Errno) { return nil, nil, api.OK }
+func Decode(shards [][]byte) ([]api.Blob, api.Verdicts, api.Errno) {
+	verdicts := make(api.Verdicts, len(shards))
+	var taken []api.Shard
+	for i, text := range shards {
+		shard, errno, _ := Parse(text)
+		verdicts[i] = errno
+		if errno == api.OK {
+			taken = append(taken, shard)
+		}
+	}
+	blobs, err := archive.Decode(taken)
+	errno, _ := answer(err)
+	return blobs, verdicts, errno
+}
 
 // NewReader makes a Reader (P9).
 func NewReader() *Reader {

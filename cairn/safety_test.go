@@ -438,3 +438,102 @@ func TestP2WriteAnswersNewMemory(t *testing.T) {
 		checkApart(t, [][]byte{got, whole})
 	}
 }
+
+func TestP1DecodeEndsAtAnyBytes(t *testing.T) {
+	random := rand.New(rand.NewSource(28))
+	for range 3000 {
+		given := make([][]byte, random.Intn(6))
+		for i := range given {
+			given[i] = make([]byte, random.Intn(80))
+			random.Read(given[i])
+			if random.Intn(2) == 0 {
+				copy(given[i], "CAIRN1")
+			}
+			if random.Intn(3) == 0 {
+				given[i] = spoil(random, randomDraft(random))
+			}
+		}
+		checkDecodeLikeWant(t, "any bytes", given)
+	}
+}
+
+// Whatever the error is, there are no blobs, and the list of errors is there.
+func TestP1DecodeTellsNoBlobsBesideAnError(t *testing.T) {
+	p := api.Params{K: 2, N: 3, Chunk: 1}
+	one, two, other := wantShards([]api.Blob{blob("a", "xyz")}, p), wantShards([]api.Blob{blob("a", "xYz")}, p), wantShards([]api.Blob{blob("b", "xyz")}, p)
+	for errno, given := range map[api.Errno][][]byte{
+		api.ErrMixed: {one[0], one[1], other[2]}, api.ErrTwice: {one[0], one[1], one[1]}, api.ErrFew: {one[0]}, api.ErrOdd: {one[0], one[1], two[2]},
+	} {
+		if got, verdicts, e := cairn.Decode(given); e != errno || len(got) != 0 || len(verdicts) != len(given) {
+			t.Errorf("P1: %d blobs, %v, %d, want none and %d", len(got), verdicts, e, errno)
+		}
+	}
+}
+
+// roomyShards gives shards that have spare room behind each and shards behind them, all of these, and the memory of the shards.
+func roomyShards(shards [][]byte) (inner [][]byte, full [][]byte, wholes [][]byte) {
+	return roomyItems(shards, func(b *[]byte) *[]byte { return b }, []byte("behind"))
+}
+
+func TestP2DecodeLeavesItsShards(t *testing.T) {
+	shards := wantShards([]api.Blob{blob("b", "some data"), blob("a", ""), blob("abc", "more")}, api.Params{K: 2, N: 4, Chunk: 3})
+	for _, indexes := range [][]int{{0, 1}, {3, 2}, {2, 0, 3}, {3, 2, 1, 0}, {1}, {2, 2}} {
+		list := append(chosen(shards, indexes...), shards[0][:60])
+		given, full, wholes := roomyShards(list)
+		cairn.Decode(given)
+		for i, b := range list {
+			_, want := roomy(b)
+			if !bytes.Equal(wholes[i], want) || len(given[i]) != len(b) || &given[i][0] != &wholes[i][8] {
+				t.Errorf("P2: Decode of %v wrote into shard %d", indexes, i)
+			}
+		}
+		for _, b := range full[len(given):] {
+			if string(b) != "behind" {
+				t.Errorf("P2: Decode of %v wrote behind its shards", indexes)
+			}
+		}
+	}
+}
+
+func TestP2DecodeAnswersNewMemory(t *testing.T) {
+	blobs := []api.Blob{blob("a", ""), blob("abc", "more"), blob("b", "some data"), blob("c", ""), blob("d", "7")}
+	for _, p := range []api.Params{{K: 1, N: 1, Chunk: 50}, {K: 1, N: 3, Chunk: 2}, {K: 2, N: 4, Chunk: 3}, {K: 4, N: 5, Chunk: 1}} {
+		shards := wantShards(blobs, p)
+		for _, list := range [][][]byte{shards[:p.K], shards[p.N-p.K:], shards} {
+			given, _, wholes := roomyShards(list)
+			got, verdicts, errno := cairn.Decode(given)
+			for _, whole := range wholes {
+				scribble(whole, 0)
+			}
+			if errno != api.OK || !sameBlobs(got, blobs) {
+				t.Fatalf("P2: what Decode answered hangs on the caller's bytes: %v, %d", got, errno)
+			}
+			for i := range verdicts[:cap(verdicts)] {
+				verdicts[:cap(verdicts)][i] = 77
+			}
+			lists := wholes
+			for _, b := range got {
+				lists = append(lists, b.Data)
+			}
+			checkApart(t, lists)
+			for _, b := range got[len(got):cap(got)] {
+				if b.Name != "" || b.Data != nil {
+					t.Fatalf("P2: something stands behind the answer's blobs")
+				}
+			}
+			checkDecoded(t, "behind a changed answer", list, blobs)
+		}
+	}
+}
+
+// One list handed in as several shards is read only.
+func TestP2DecodeOfOneListTwice(t *testing.T) {
+	shards := wantShards([]api.Blob{blob("a", "xyz")}, api.Params{K: 1, N: 2, Chunk: 2})
+	shared := append(bytes.Clone(shards[0]), shards[1]...)
+	before := bytes.Clone(shared)
+	end := len(shards[0])
+	checkDecode(t, "pieces of one list", [][]byte{shared, shared[:end], shared[end:], shared[1:]}, []api.Blob{blob("a", "xyz")}, []api.Errno{api.ErrMore, api.OK, api.OK, api.ErrMagic}, api.OK)
+	if !bytes.Equal(shared, before) {
+		t.Errorf("P2: Decode wrote into its shards")
+	}
+}

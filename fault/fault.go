@@ -1,4 +1,4 @@
-// Package fault: what is wrong with a shard, and where, as errors.
+// Package fault: what is wrong with a shard, or with several together, and where, as errors.
 package fault
 
 import (
@@ -11,7 +11,7 @@ import (
 // TooEarly is what errors.Is finds in the faults of a shard that ends too early. These alone may be mended by bytes that come later.
 var TooEarly = errors.New("it ends too early")
 
-// Fault is an error and the place where it shows.
+// Fault is an error and the place where it shows: in a shard so many bytes, among shards so many of them.
 type Fault struct {
 	Errno api.Errno
 	Place int

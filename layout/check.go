@@ -15,10 +15,7 @@ func Check(s api.Shard) api.Errno {
 	case !ContentFits(s.Names, s.Sizes):
 		return api.ErrMany
 	}
-	total := 0
-	for _, size := range s.Sizes {
-		total += size
-	}
+	total := Total(s.Sizes)
 	switch {
 	case len(s.Column) != coding.Length(s.K, total):
 		return api.ErrColumns

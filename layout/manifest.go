@@ -43,6 +43,15 @@ func sizesFit(sizes []int) bool {
 	return true
 }
 
+// Total gives how many bytes of data blobs of these sizes, which fit, have together.
+func Total(sizes []int) int {
+	total := 0
+	for _, size := range sizes {
+		total += size
+	}
+	return total
+}
+
 func manifestSize(names []string) int {
 	size := besideBlobs
 	for _, name := range names {
